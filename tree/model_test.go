@@ -158,7 +158,7 @@ func refused(t *testing.T, what string, proof []string) {
 	}
 }
 
-// leaves of RFC 6962's known tree, in hex, and its roots; the roots are also out of a reckoning in another language.
+// The leaves of a small tree, and the roots of its beginnings in hex, which are out of a reckoning in another language.
 var (
 	knownLeaves = [8]string{"", "\x00", "\x10", "\x20\x21", "\x30\x31", "@ABC", "PQRSTUVW", "`abcdefghijklmno"}
 	knownRoots  = [9]string{
